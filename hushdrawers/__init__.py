@@ -1,0 +1,1 @@
+"""Hushdrawers: a store in which nobody can say whether there is a further drawer."""
