@@ -91,7 +91,7 @@ def check_times(life, times):
 
 
 def opened(cells, drawer):
-    """What the keys of the drawers from 0 to this one open, cell by cell."""
+    """What somebody with the keys from 0 to a drawer sees in some cells, cell by cell."""
     return tuple(held if held is not None and held[0] <= drawer else None for held in cells)
 
 
