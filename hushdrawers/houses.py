@@ -4,6 +4,9 @@ from math import comb
 
 from hushdrawers.errors import BadDrawer, BadHouse, BadNumber, BadPage
 
+LEAST_CELLS = 2
+MOST_CELLS = 12
+
 
 def is_number(value, least, most):
     """Whether a value is an integer from least to most."""
@@ -11,12 +14,18 @@ def is_number(value, least, most):
     return isinstance(value, int) and not isinstance(value, bool) and least <= value <= most
 
 
+def check_number(value, least, most):
+    """Raise BadNumber for any value but the integers from least to most."""
+    if not is_number(value, least, most):
+        raise BadNumber()
+
+
 def wrong_word(value):
     """What is wrong first with a value that is no house, None if it is one."""
     if not isinstance(value, tuple) or len(value) != 5:
         return "form"
     cells, sealed, drawers, pages, copies = value
-    if not is_number(cells, 2, 12):
+    if not is_number(cells, LEAST_CELLS, MOST_CELLS):
         return "cells"
     if not is_number(sealed, 1, cells):
         return "sealed"

@@ -89,6 +89,17 @@ def check_coins(house, life, coins):
             raise BadCoins(at)
 
 
+def with_session(life, deepest):
+    """A life with a further session in which nothing is done yet."""
+    return life + ((deepest, ()),)
+
+
+def with_moment(life, moment):
+    """A life with a further moment of its last session."""
+    deepest, story = life[-1]
+    return life[:-1] + ((deepest, story + (moment,)),)
+
+
 def upper_moment(moment, drawer):
     """A moment without the deeds in drawers beneath a drawer."""
     return tuple(deed for deed in moment if deed[0] <= drawer)

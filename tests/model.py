@@ -4,7 +4,7 @@ It keeps whole copies (drawer, page, version, content) in its rows, looks every 
 cells each time, and shares no code with the program.
 """
 
-from itertools import combinations
+from itertools import combinations, product
 
 
 def newest(cells, drawer, page):
@@ -102,3 +102,35 @@ def told(house, way, life, coins):
             if model.live(cell) and held[0] == d)) for d in keys},
         "later": later,
     }
+
+
+def rows_of_coins(house, many):
+    """All rows of the coins of so many moments."""
+    return product(range(len(list(combinations(range(house[0]), house[1])))), repeat=many)
+
+
+def viewed(house, way, life, coins, drawer, times):
+    """What the keys from 0 to a drawer show at some times."""
+    model = told(house, way, life, coins)
+    pairs = []
+    for place, at in enumerate(times):
+        before = times[place - 1] if place else at
+        since = {cell for fresh in model["sets"][before + 1:at + 1] for cell in fresh}
+        cells = [held if held and held[0] <= drawer else None for held in model["states"][at]]
+        pairs.append((tuple(cells), tuple(sorted(since))))
+    return tuple(pairs)
+
+
+def bared(life, drawer):
+    """A life without keys and deeds of the drawers beneath a drawer."""
+    return tuple(
+        (min(deepest, drawer), tuple(tuple(d for d in deeds if d[0] <= drawer) for deeds in story))
+        for deepest, story in life)
+
+
+def parted(house, way, life, coins, drawer, is_often):
+    """Whether the keys from 0 to a drawer show something else than without what is beneath."""
+    many = sum(len(story) for _, story in life)
+    times = tuple(range(many + 1)) if is_often else (many,)
+    return (viewed(house, way, life, coins, drawer, times)
+            != viewed(house, way, bared(life, drawer), coins, drawer, times))

@@ -21,6 +21,19 @@ INTERFACE = {
         "found_later": "house way life coins drawer page",
         "view": "house way life coins drawer times", "looks": "house way life coins drawer",
     },
+    "parting": {
+        "is_parted": "house way life coins drawer is_often",
+        "parting": "house way drawer moments is_often",
+        "safe_ways": "house drawer moments is_often",
+    },
+    "chances": {
+        "row_count": "house life", "view_count": "house way life drawer times",
+        "best_guess": "house way one other drawer times",
+        "waiting_counts": "house way story drawer", "more_wait": "house way story drawer many",
+        "loss_chance": "house life drawer page", "lives_on": "house copies moments",
+        "least_cells": "house story drawer many top bottom",
+    },
+    "texts": {"written": "house life", "read_life": "text"},
 }
 FOLDER = Path(__file__).resolve().parent.parent / "hushdrawers"
 STATEMENTS = (ast.Global, ast.AsyncFunctionDef, ast.AsyncFor, ast.AsyncWith, ast.Import, ast.Div)
@@ -35,6 +48,14 @@ class Interface(unittest.TestCase):
                 function = getattr(module, word)
                 self.assertEqual(function.__module__, module.__name__, word)
                 self.assertEqual(list(inspect.signature(function).parameters), arguments.split())
+
+
+    def test_desk(self):
+        desk = importlib.import_module("hushdrawers.desk").Desk
+        self.assertEqual(desk.__module__, "hushdrawers.desk")
+        self.assertEqual(list(inspect.signature(desk).parameters), [])
+        self.assertIn("do", vars(desk))
+        self.assertEqual(list(inspect.signature(desk.do).parameters), ["self", "line"])
 
 
 class Form(unittest.TestCase):
